@@ -1,0 +1,1 @@
+"""Sumroom: sums of letters, of which some are told to be nothing."""
