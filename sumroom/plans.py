@@ -174,6 +174,12 @@ def levelled(width, steps):
             rows[at] = mixed(1, rows[at], 1, rows[at + 1])
 
 
+def kinds_of(width, rows):
+    """Return the kinds by which rows of `width` numbers are told, where these rows are told to be nothing."""
+    moduli, _ = levelled(width, Stairs(width, rows).steps())
+    return [kind for kind in moduli if kind != 1]
+
+
 class Plan:
     """What the letters and nothings of a room come to."""
 
@@ -195,3 +201,10 @@ class Plan:
     def sum_at(self, spot):
         """Return a sum that has the spot."""
         return self.stairs.rest(woven(spot, self._corners, self._letters))
+
+    def gauge(self, gap):
+        """Return a gauge, weights and a number that does not go into what the sum weighs, None if it is nothing."""
+        for at, place in enumerate(self.spot(gap)):
+            if place != 0:
+                return list(self.gauges[at]), self.moduli[at]
+        return None

@@ -114,12 +114,7 @@ class Room:
 
     def apart(self, one, other):
         """Return a gauge, weights and a number, that tells the two sums apart, None for alike ones."""
-        gap = self._less(one, other)
-        plan = self._planned()
-        for at, place in enumerate(plan.spot(gap)):
-            if place != 0:
-                return list(plan.gauges[at]), plan.moduli[at]
-        return None
+        return self._planned().gauge(self._less(one, other))
 
     def order(self, one):
         """Return how many times a sum is taken, at least, until it is alike with nothing, None if it never is."""

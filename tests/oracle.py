@@ -138,3 +138,36 @@ def told(room, sums):
     pairs = [(room.alike(a, b), room.shown(a, b), room.apart(a, b)) for a in sums for b in sums]
     return (room.letters(), room.nothings(), kinds, room.count(), [room.spot(one) for one in sums],
             room.sum_at(spot), pairs, [room.order(one) for one in sums])
+
+
+def units(wide):
+    """Each letter once."""
+    return [[int(at == place) for place in range(wide)] for at in range(wide)]
+
+
+def some_ways(seed, many, letters=4, nothings=4, far=4):
+    """Two rooms, as letters and nothings, and the sums of a way from the one to the other, so many times."""
+    chance = random.Random(seed)
+    for wide, rows in some_rooms(seed + 1, many, letters, nothings, far):
+        other = chance.randint(0, letters)
+        sums = [some_sum(chance, other, far) for _ in range(wide)]
+        # Where the first room's nothings go has to be nothing; a few more may be so.
+        ground = [woven(row, sums, other) for row in rows]
+        ground += [some_sum(chance, other, 2 * far) for _ in range(chance.randint(0, nothings))]
+        chance.shuffle(ground)
+        yield (wide, rows), (other, ground), sums
+
+
+def told_by_way(way, sums, others):
+    """All that a way tells of itself, of some sums of the first room and of some of the other one."""
+    return (way.left_out(), way.left_kinds(), way.reached_kinds(), way.over_kinds(),
+            [(way.image(one), way.left_as(one)) for one in sums],
+            [(way.source(one), way.bar(one)) for one in others])
+
+
+def product_of(kinds):
+    """How many unlike sums kinds without 0 come to."""
+    many = 1
+    for kind in kinds:
+        many *= kind
+    return many

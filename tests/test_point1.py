@@ -4,8 +4,9 @@ import copy
 import random
 import unittest
 
-from sumroom.errors import BadLetters, BadSpot, BadSum, NoNothing, SumError
+from sumroom.errors import BadLetters, BadSpot, BadSum, NoNothing
 from sumroom.rooms import Room
+from tests.checks import RefusalChecks
 from tests.oracle import ODD_THINGS, some_rooms, some_sum, told, woven
 
 ROWS = [[4, 0, 6], [0, 6, 2], [2, 2, 2], [0, 0, 0]]
@@ -147,7 +148,7 @@ class SameTold(unittest.TestCase):
         self.assertEqual(room.shown([3], [3]), [])
 
 
-class Refusals(unittest.TestCase):
+class Refusals(RefusalChecks, unittest.TestCase):
 
     def setUp(self):
         self.room = Room(2, [[4, 2], [0, 6]])
@@ -155,12 +156,6 @@ class Refusals(unittest.TestCase):
 
     def tearDown(self):
         self.assertEqual(told(self.room, [[0, 0], [1, 2], [4, 8]]), self.before)
-
-    def refused(self, error, call, *handed):
-        with self.assertRaises(error, msg=repr(handed)) as caught:
-            call(*handed)
-        self.assertIs(type(caught.exception), error)
-        self.assertIsInstance(caught.exception, SumError)
 
     def test_letters_of_any_kind(self):
         for thing in ODD_THINGS + [[], [2]]:

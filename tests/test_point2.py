@@ -2,20 +2,13 @@
 
 import unittest
 
-from sumroom.errors import BadLetters, BadSum, NoNothing, SumError, TooMany
+from sumroom.errors import BadLetters, BadSum, NoNothing, TooMany
 from sumroom.rooms import Room
+from tests.checks import RefusalChecks
 from tests.oracle import FAR
 
 
-class RefusedCase(unittest.TestCase):
-
-    def refused(self, error, call, *handed):
-        with self.assertRaises(SumError, msg=repr(handed)) as caught:
-            call(*handed)
-        self.assertIs(type(caught.exception), error)
-
-
-class Letters(RefusedCase):
+class Letters(RefusalChecks, unittest.TestCase):
 
     def test_none_to_six(self):
         for letters in range(7):
@@ -41,7 +34,7 @@ class Letters(RefusedCase):
         self.refused(BadSum, Room, 0, [[0]])
 
 
-class Nothings(RefusedCase):
+class Nothings(RefusalChecks, unittest.TestCase):
 
     def test_no_list_and_none_and_an_empty_one(self):
         for room in (Room(2), Room(2, None), Room(2, []), Room(letters=2, nothings=None)):
@@ -114,7 +107,7 @@ class Nothings(RefusedCase):
             self.refused(BadSum, Room(2).put, row)
 
 
-class PutAndTake(RefusedCase):
+class PutAndTake(RefusalChecks, unittest.TestCase):
 
     def test_put_stands_behind_all_others_and_tells_its_number(self):
         room = Room(2, [[9, 9]])
@@ -144,7 +137,7 @@ class PutAndTake(RefusedCase):
             self.refused(NoNothing, Room(1).take, number)
 
 
-class SeveralDue(RefusedCase):
+class SeveralDue(RefusalChecks, unittest.TestCase):
 
     def test_letters_before_sums_before_too_many(self):
         for letters in (-1, 7, None, True, "2"):
